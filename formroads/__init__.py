@@ -1,0 +1,1 @@
+"""Formroads: nested forms that go from office to office."""

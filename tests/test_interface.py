@@ -1,0 +1,72 @@
+"""The names and arguments of the interface, and where they are defined."""
+
+import importlib
+import inspect
+import unittest
+
+FUNCTIONS = {
+    "words": "is_name(text) check_name(text) read_number(text) split_words(line)",
+    "shapes": "check_shape(shape) column_count(shape) level_of(shape,column) above(shape,level) cuts(shape) "
+              "shape_of(chain,count) depth_of(shape,columns) path_values(shape,path) values_path(shape,values,depth)",
+    "forms": "outline_of(form) check_outline(outline) form_of(outline) check_form(form,shape) rows_of(form) "
+             "form_of_rows(rows)",
+    "rules": "rules_of(form,shape)",
+    "writing": "write_value(value) read_value(text) write_book(book) read_book(lines) write_schema(schema) "
+               "read_schema(book,line) write_form(form) read_form(lines)",
+    "listing": "walk_forms(schema,most) count_forms(schema,most) form_number(schema,most,form) "
+               "numbered_form(schema,most,number)",
+    "renaming": "renumber_shape(shape,order) renumber_form(form,shape,order) renumber_schema(schema,order) "
+                "renumber_step(step,order) rename_book(book,names) rename_value(value,names) rename_form(form,names) "
+                "rename_schema(schema,names)",
+    "steps": "step_shape(shape,step) script_shape(shape,steps) step_form(form,shape,step) run_script(form,shape,steps)",
+    "stepwords": "write_step(step) read_step(line)",
+    "scripts": "short_script(regrouping) regroupings_between(before,after) script_difference(schema,first,second) "
+               "shortest_script(schema,regrouping)",
+    "choices": "possible_branches(parted,path,next_path) start_path(regrouping,path) "
+               "branch_choices(regrouping,parted,path,next_path,end) leaf_choices(regrouping,rules,result)",
+    "notecodes": "sizes_of(lists) note_of(lists,chosen) chosen_by(lists,note) note_sizes(regrouping,rules,result) "
+                 "note_number(sizes,note) numbered_note(sizes,number)",
+}
+CLASSES = {
+    ("kinds", "Kindbook"): "__init__(self,rows) checked(self,name) size_of(self,name) parent_of(self,name) "
+                           "leads_of(self,name) chain_of(self,name) members(self,kind) led(self,value,kind) "
+                           "below(self,lower,upper) finer(self,first,second)",
+    ("rules", "Rules"): "__init__(self,full,parted) named(self) within(self,other)",
+    ("schemas", "Schema"): "__init__(self,book,shape,kinds,rules) choices(self,column) check(self,form) fits(self,form) "
+                           "same(self,other) with_kinds(self,kinds) with_rules(self,rules)",
+    ("regroupings", "Regrouping"): "__init__(self,before,after,depths) identity(shape) of(shape,steps) then(self,other) "
+                                   "refused(self) end_path(self,path) end_branch(self,values,next_values,branch)",
+}
+OPERATORS = {
+    ("kinds", "Kindbook"): "__contains__ __iter__", ("rules", "Rules"): "__or__ __and__ __contains__ __eq__",
+    ("regroupings", "Regrouping"): "__eq__ __call__",
+}
+
+
+def described(function):
+    return function.__name__ + "(" + ",".join(inspect.signature(function).parameters) + ")"
+
+
+def module_of(name):
+    return importlib.import_module("formroads." + name)
+
+
+class InterfaceTest(unittest.TestCase):
+    def test_functions(self):
+        for name, functions in FUNCTIONS.items():
+            for told in functions.split(" "):
+                function = getattr(module_of(name), told.split("(")[0])
+                self.assertEqual((described(function), function.__module__), (told, "formroads." + name))
+
+    def test_classes(self):
+        for (name, class_name), methods in CLASSES.items():
+            own = getattr(module_of(name), class_name)
+            self.assertEqual(own.__module__, "formroads." + name)
+            for told in methods.split(" "):
+                self.assertIn(told.split("(")[0], vars(own))
+                self.assertEqual(described(getattr(own, told.split("(")[0])), told)
+
+    def test_operators(self):
+        for (name, class_name), operators in OPERATORS.items():
+            for operator in operators.split(" "):
+                self.assertIn(operator, vars(getattr(module_of(name), class_name)))
