@@ -17,15 +17,15 @@ class Kindbook:
             raise InvalidKind("a kind book has at least one kind")
         if len(rows) > self.MOST:
             raise TooMany("a kind book has at most 5 kinds")
-        self._records = {}
+        self._told = {}
         for name, size, parent, leads in rows:
             self._check_record(name, size, parent, leads)
-            self._records[name] = (size, parent, tuple(leads))
+            self._told[name] = (size, parent, tuple(leads))
         self.names = tuple([row[0] for row in rows])
 
     def _check_record(self, name, size, parent, leads):
         check_name(name)
-        if name in self._records:
+        if name in self._told:
             raise DuplicateName("an earlier kind has this name")
         if not 1 <= size <= self.MOST_SIZE:
             raise InvalidKind("a kind has the size 1 to 4")
@@ -33,7 +33,7 @@ class Kindbook:
             if leads:
                 raise InvalidKind("a root leads nowhere")
             return
-        if parent not in self._records:
+        if parent not in self._told:
             raise UnknownName("no earlier kind has the name of the parent")
         if len(leads) != size:
             raise InvalidKind("each number of a kind has one lead")
@@ -41,26 +41,26 @@ class Kindbook:
             raise InvalidKind("a lead is a number of the parent")
 
     def __contains__(self, name):
-        return name in self._records
+        return name in self._told
 
     def __iter__(self):
         return iter(self.names)
 
     def checked(self, name):
         """The name, if it is that of a told kind."""
-        if name not in self._records:
+        if name not in self._told:
             raise UnknownName("the kind book has no such kind")
         return name
 
     def size_of(self, name):
-        return self._records[self.checked(name)][0]
+        return self._told[self.checked(name)][0]
 
     def parent_of(self, name):
         """The parent of a told kind, or None for a root."""
-        return self._records[self.checked(name)][1]
+        return self._told[self.checked(name)][1]
 
     def leads_of(self, name):
-        return self._records[self.checked(name)][2]
+        return self._told[self.checked(name)][2]
 
     def chain_of(self, name):
         """The kind itself, its parent, the parent of the parent, up to a root."""
