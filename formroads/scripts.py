@@ -44,16 +44,15 @@ def regroupings_between(before, after):
 def _possible_depths(before, after):
     found = [()]
     for cut in cuts(after):
-        longer = []
-        for depths in found:
-            smallest = depths[-1] if depths else 0
-            longer.extend([depths + (depth,) for depth in _depths_of_cut(before, cut) if depth >= smallest])
-        found = longer
+        found = [depths + (depth,) for depths in found for depth in _depths_of_cut(before, cut, depths)]
     return found
 
 
-def _depths_of_cut(before, cut):
-    return [depth for depth in range(len(before)) if all([column in cut for column in above(before, depth)])]
+def _depths_of_cut(before, cut, depths):
+    """The depths that the cut may have behind the depths of the smaller cuts."""
+    smallest = depths[-1] if depths else 0
+    possible = range(smallest, len(before))
+    return [depth for depth in possible if all([column in cut for column in above(before, depth)])]
 
 
 def script_difference(schema, first, second):
