@@ -8,6 +8,8 @@ import itertools
 import unittest
 
 from formroads.kinds import Kindbook
+from formroads.passages import Passage
+from formroads.places import Places
 from formroads.regroupings import Regrouping
 from formroads.rules import Rules
 from formroads.schemas import Schema
@@ -256,6 +258,10 @@ def plain(thing):
         return ("rules", thing.full, thing.parted)
     if isinstance(thing, Regrouping):
         return ("regrouping", thing.before, thing.after, thing.depths)
+    if isinstance(thing, Passage):
+        return ("passage", plain(thing.book), thing.facts())
+    if isinstance(thing, Places):
+        return ("places", plain(thing.book), thing.rows, thing.links)
     if isinstance(thing, dict):
         return ("dict", [(plain(key), plain(value)) for key, value in thing.items()])
     if isinstance(thing, list):
@@ -283,9 +289,11 @@ class Case(unittest.TestCase):
     """A test case that knows exact errors."""
 
     def raises(self, error, function, *arguments):
+        """The call raises exactly this error, which is returned."""
         with self.assertRaises(Exception) as caught:
             function(*arguments)
         self.assertIs(type(caught.exception), error, caught.exception)
+        return caught.exception
 
     def unchanging(self, function, *arguments):
         """Asks twice: no argument is changed, and what is done to the first answer has no effect."""

@@ -26,6 +26,16 @@ FUNCTIONS = {
                "branch_choices(regrouping,parted,path,next_path,end) leaf_choices(regrouping,rules,result)",
     "notecodes": "sizes_of(lists) note_of(lists,chosen) chosen_by(lists,note) note_sizes(regrouping,rules,result) "
                  "note_number(sizes,note) numbered_note(sizes,number)",
+    "notes": "script_note(regrouping,rules,form) restore(regrouping,rules,result,note) "
+             "note_count(regrouping,rules,result) origins(regrouping,rules,result,most)",
+    "lossless": "lost_pair(schema,regrouping) back_regrouping(regrouping) unreturned(schema,regrouping)",
+    "borders": "check_border(book,kinds,targets) cross_form(book,form,shape,targets,label) "
+               "cross_passages(form,shape,passages,labels)",
+    "blame": "walk_value(book,kinds,value) blamed(book,kinds,value) blamable(book,kinds)",
+    "valuenotes": "sources(book,kind,target,value) value_note(schema,targets,form) "
+                  "restore_values(schema,targets,result,note) value_count(schema,targets,result) "
+                  "value_sizes(schema,targets,result) lost_values(schema,targets)",
+    "completing": "completion(places) is_sound(places,table) as_told(places,table,other) sound_tables(places,most)",
 }
 CLASSES = {
     ("kinds", "Kindbook"): "__init__(self,rows) checked(self,name) size_of(self,name) parent_of(self,name) "
@@ -36,6 +46,10 @@ CLASSES = {
                            "same(self,other) with_kinds(self,kinds) with_rules(self,rules)",
     ("regroupings", "Regrouping"): "__init__(self,before,after,depths) identity(shape) of(shape,steps) then(self,other) "
                                    "refused(self) end_path(self,path) end_branch(self,values,next_values,branch)",
+    ("passages", "Passage"): "__init__(self,book,start_kind,end_kind,borders,gate,gate_stage,reached,fail_stage) "
+                             "of(book,kinds) then(self,other) stage(self,value) lead(self,value) passing(self) facts(self)",
+    ("places", "Places"): "__init__(self,book,rows,links) kind_of(self,place) reached_from(self,place) "
+                          "walk(self,first,second)",
 }
 OPERATORS = {
     ("kinds", "Kindbook"): "__contains__ __iter__", ("rules", "Rules"): "__or__ __and__ __contains__ __eq__",
