@@ -8,12 +8,11 @@ def walk_value(book, kinds, value):
     check_kinds(book, kinds)
     check_border(book, kinds[:-1], kinds[1:])
     behind = []
-    for stage, kind in enumerate(kinds):
-        if stage > 0:
-            value = book.led(value, kind)
-            if value is None:
-                return (behind, stage)
-            behind.append(value)
+    for stage, kind in enumerate(kinds[1:], start=1):
+        value = book.led(value, kind)
+        if value is None:
+            return (behind, stage)
+        behind.append(value)
     return (behind, 0)
 
 
@@ -25,7 +24,5 @@ def blamed(book, kinds, value):
 
 def blamable(book, kinds):
     """The positions that are blamed for at least one member of the first kind."""
-    check_kinds(book, kinds)
-    check_border(book, kinds[:-1], kinds[1:])
     positions = [blamed(book, kinds, value) for value in book.members(kinds[0])]
     return sorted(set([position for position in positions if position is not None]))

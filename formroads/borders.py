@@ -41,9 +41,9 @@ def cross_passages(form, shape, passages, labels):
         for level, cells in rows
         for column, value in zip(shape[level], cells)
     ]
-    first = min([stage for stage in stages if stage > 0], default=0)
-    if first > 0:
-        raise Stopped(labels[first - 1])
+    stages = [stage for stage in stages if stage > 0]
+    if stages:
+        raise Stopped(labels[min(stages) - 1])
     return form_of_rows([(level, _led_cells(shape[level], cells, passages)) for level, cells in rows])
 
 

@@ -68,7 +68,7 @@ def sound_tables(places, *, most=None):
         raise TooMany("too many places are unknown")
     found = 0
     for kinds in _possible_kinds(places):
-        if found == most:
+        if most is not None and found >= most:
             return
         table = {place: kind for (place, _), kind in zip(places.rows, kinds)}
         if is_sound(places, table):

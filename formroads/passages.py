@@ -27,8 +27,8 @@ class Passage:
         gate_stage = 0
         reached = None if kinds[0] == UNKNOWN else kinds[0]
         fail_stage = 0
-        for stage, kind in enumerate(kinds):
-            if stage > 0 and kind != UNKNOWN and fail_stage == 0:
+        for stage, kind in enumerate(kinds[1:], start=1):
+            if kind != UNKNOWN and fail_stage == 0:
                 if reached is None:
                     gate = kind
                     gate_stage = stage

@@ -1,6 +1,6 @@
 """Notes of borders: which of the forms with one result a form is."""
 
-from formroads.borders import check_border, check_kinds, cross_form
+from formroads.borders import check_border, cross_form
 from formroads.errors import InvalidForm, InvalidSchema, Stopped, Unreached
 from formroads.forms import form_of, form_of_rows, rows_of
 from formroads.notecodes import chosen_by, note_of, sizes_of
@@ -11,7 +11,6 @@ from formroads.shapes import values_path
 
 def sources(book, kind, target, value):
     """The members of the kind that a border into the target leads to the value."""
-    check_kinds(book, [kind, target])
     return [member for member in book.members(kind) if book.led(member, target) == value]
 
 

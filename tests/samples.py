@@ -13,6 +13,8 @@ from formroads.places import Places
 from formroads.regroupings import Regrouping
 from formroads.rules import Rules
 from formroads.schemas import Schema
+from formroads.summaries import Summary
+from formroads.ways import Way
 
 RECORDS = [("month", 2, None, ()), ("day", 3, "month", (0, 0, 1)), ("size", 2, None, ())]
 BIT = (("bit", 0), ("bit", 1))
@@ -260,6 +262,10 @@ def plain(thing):
         return ("regrouping", thing.before, thing.after, thing.depths)
     if isinstance(thing, Passage):
         return ("passage", plain(thing.book), thing.facts())
+    if isinstance(thing, Way):
+        return ("way", thing.name, thing.label, plain(thing.start), plain(thing.end), thing.steps)
+    if isinstance(thing, Summary):
+        return ("summary", plain(thing.start), plain(thing.end), thing.facts())
     if isinstance(thing, Places):
         return ("places", plain(thing.book), thing.rows, thing.links)
     if isinstance(thing, dict):

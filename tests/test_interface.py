@@ -36,6 +36,13 @@ FUNCTIONS = {
                   "restore_values(schema,targets,result,note) value_count(schema,targets,result) "
                   "value_sizes(schema,targets,result) lost_values(schema,targets)",
     "completing": "completion(places) is_sound(places,table) as_told(places,table,other) sound_tables(places,most)",
+    "clashes": "check_walks(places,walks)",
+    "roads": "check_road(ways) run_road(ways,form) run_early(ways,form) run_late(ways,form)",
+    "joining": "still(schema) way_summary(way) road_summary(ways) joined(first,second)",
+    "waynotes": "way_note(way,form) bring_back(way,result,note) way_count(way,result) road_notes(ways,form) "
+                "bring_back_road(ways,result,notes)",
+    "stops": "passing(summaries,rules) ranked_form(summary,rank) label_difference(first,second)",
+    "differing": "difference(first,second)",
 }
 CLASSES = {
     ("kinds", "Kindbook"): "__init__(self,rows) checked(self,name) size_of(self,name) parent_of(self,name) "
@@ -50,10 +57,14 @@ CLASSES = {
                              "of(book,kinds) then(self,other) stage(self,value) lead(self,value) passing(self) facts(self)",
     ("places", "Places"): "__init__(self,book,rows,links) kind_of(self,place) reached_from(self,place) "
                           "walk(self,first,second)",
+    ("ways", "Way"): "__init__(self,name,label,start,end,steps) send(self,form)",
+    ("summaries", "Summary"): "__init__(self,start,end,passages,labels,hollow,depths,compares) rank(self,column,value) "
+                              "form_rank(self,form) shares(self,at,values,next_values,branch) "
+                              "end_branch_of(self,values,next_values,branch) facts(self)",
 }
 OPERATORS = {
     ("kinds", "Kindbook"): "__contains__ __iter__", ("rules", "Rules"): "__or__ __and__ __contains__ __eq__",
-    ("regroupings", "Regrouping"): "__eq__ __call__",
+    ("regroupings", "Regrouping"): "__eq__ __call__", ("summaries", "Summary"): "__call__",
 }
 
 

@@ -10,11 +10,10 @@ from formroads.rules import Rules
 from formroads.schemas import Schema
 from formroads.scripts import regroupings_between
 from tests.samples import (
-    BIT, Case, all_forms, all_regroupings, all_rules, all_shapes, bit_forms, bit_schema, plain_cuts, plain_obeys,
+    Case, all_forms, all_regroupings, all_rules, all_shapes, bit_forms, bit_schema, plain_cuts, plain_obeys,
     plain_outline, sample_book,
 )
 
-A, B = BIT
 FLAT = Regrouping(((0,), (1,)), ((0, 1),), ())
 
 

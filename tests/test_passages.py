@@ -123,6 +123,10 @@ class FactsTest(Case):
         # Ranks take the place of stages in summaries.
         passage = Passage(sample_book(), "?", "size", 2, "day", 1, "month", 2)
         self.assertEqual([passage.stage(value) for value in (("size", 0), ("month", 0), ("day", 0))], [1, 1, 2])
+        # A rank may even be the first one where a sequence cannot fail at its first border.
+        failing = Passage(sample_book(), "day", "?", 1, None, 0, "day", 1)
+        self.assertEqual(
+            failing.then(Passage.of(sample_book(), ["?", "month"])).facts(), ("day", "month", 2, None, 0, "day", 1))
 
 
 class ErrorsTest(Case):

@@ -218,6 +218,20 @@ class LostValuesTest(Case):
         self.assertNotEqual(first, second)
         self.assertIsNone(lost_values(schema, ("size", "day", "day")))
 
+    def test_four_columns(self):
+        # Each column takes its value from its own kind, whichever column it is that loses one.
+        kinds = ("size", "day", "month", "?")
+        schema = Schema(sample_book(), ((3,), (0, 2), (1,)), kinds, Rules())
+        for targets in itertools.product(("size",), ("day", "month"), ("month", "?"), ("size", "month", "?")):
+            pair = lost_values(schema, targets)
+            self.assertEqual(pair is not None, targets[1] == "month" or targets[3] == "month")
+            if pair is not None:
+                self.assertNotEqual(*pair)
+                led = [plain_cross(RECORDS, form, schema.shape, targets) for form in pair]
+                self.assertIsNotNone(led[0])
+                self.assertEqual(*led)
+                self.assertTrue(all(schema.fits(form) for form in pair))
+
 
 class FreshnessTest(Case):
     def test_answers_and_arguments(self):
