@@ -1,6 +1,6 @@
 """Borders: which values pass, and the forms behind them."""
 
-from formroads.errors import Clash, Stopped
+from formroads.errors import Clash, InvalidSchema, Stopped
 from formroads.forms import form_of_rows, rows_of
 from formroads.kinds import UNKNOWN
 
@@ -19,6 +19,13 @@ def check_border(book, kinds, targets):
     for kind, target in zip(kinds, targets):
         if kind != UNKNOWN and not book.below(kind, target):
             raise Clash("a told kind is not below its told target")
+
+
+def check_targets(schema, targets):
+    """Checks that a border with these targets is allowed for the columns of the schema."""
+    if len(targets) != len(schema.kinds):
+        raise InvalidSchema("a border has one target for each column")
+    check_border(schema.book, schema.kinds, targets)
 
 
 def cross_form(book, form, shape, targets, label):

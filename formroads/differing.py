@@ -1,9 +1,8 @@
 """Whether two summaries have the same outcome for every form."""
 
 from formroads.errors import NotJoined
-from formroads.forms import form_of
-from formroads.leafpairs import first_values, leaf_pairs
-from formroads.shapes import above, values_path
+from formroads.leafpairs import first_values, leaf_form, leaf_pairs, pair_form
+from formroads.shapes import above
 from formroads.stops import label_difference, passing
 
 
@@ -25,20 +24,17 @@ def difference(first, second):
 
 def _led_difference(first, second, values, depth):
     """None, or a form of one leaf with a value that is led to different values."""
-    shape = first.start.shape
     usual = first_values(first.start, values, depth)
-    for column in above(shape, depth + 1):
+    for column in above(first.start.shape, depth + 1):
         for value in values[column]:
             if first.passages[column].lead(value) != second.passages[column].lead(value):
-                changed = usual[:column] + [value] + usual[column + 1:]
-                return form_of([(0, values_path(shape, changed, depth))])
+                return leaf_form(first.start, usual[:column] + [value] + usual[column + 1:], depth)
     return None
 
 
 def _branch_difference(first, second, values, depth):
     """None, or a form of two leaves of which the later one gets different branches."""
-    shape = first.start.shape
     for one, other, branch in leaf_pairs(first.start, values, depth):
         if first.end_branch_of(one, other, branch) != second.end_branch_of(one, other, branch):
-            return form_of([(0, values_path(shape, one, depth)), (branch, values_path(shape, other, depth))])
+            return pair_form(first.start, (one, other), branch, depth)
     return None

@@ -58,6 +58,11 @@ def rows_of(form):
     return rows
 
 
+def copy_form(form):
+    """A new form with the same rows."""
+    return form_of_rows(rows_of(form))
+
+
 def next_levels(rows):
     """For each row the level of the row after it; 0 for the last row, which is a leaf on every level."""
     return [level for level, _ in rows[1:]] + [0]

@@ -91,18 +91,11 @@ def _ranked(start, end, passages, labels, hollow, depths, compares):
     ranks = {stage: rank for rank, stage in enumerate([0] + stages)}
     return Summary(
         start, end,
-        [_ranked_passage(passage, ranks) for passage in passages],
+        [passage.renumbered(len(stages), ranks) for passage in passages],
         [labels[stage - 1] for stage in stages],
         [ranks[stage] for stage in hollow],
         depths,
         [_told_entries(entries, passages) for entries in compares],
-    )
-
-
-def _ranked_passage(passage, ranks):
-    return Passage(
-        passage.book, passage.start_kind, passage.end_kind, len(ranks) - 1,
-        passage.gate, ranks[passage.gate_stage], passage.reached, ranks[passage.fail_stage],
     )
 
 

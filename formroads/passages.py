@@ -65,6 +65,13 @@ class Passage:
         # The stage 0 means never.
         return self.borders + stage if stage > 0 else 0
 
+    def renumbered(self, borders, numbers):
+        """The passage with so many borders, whose stages have new numbers; 0 is one of them and stays 0."""
+        return Passage(
+            self.book, self.start_kind, self.end_kind, borders,
+            self.gate, numbers[self.gate_stage], self.reached, numbers[self.fail_stage],
+        )
+
     def stage(self, value):
         """The stage at which a value of the start kind stops, or 0."""
         if self.gate is not None and not self.book.below(value[0], self.gate):

@@ -1,7 +1,7 @@
 """Steps that nest and unnest the tables of forms, and scripts of steps."""
 
 from formroads.errors import EmptyTable, InvalidStep
-from formroads.forms import form_of_rows, next_levels, rows_of
+from formroads.forms import copy_form, form_of_rows, next_levels, rows_of
 
 
 def step_shape(shape, step):
@@ -94,7 +94,7 @@ def _picked(columns, cells, wanted):
 def run_script(form, shape, steps):
     """The form after the script."""
     script_shape(shape, steps)
-    changed = form_of_rows(rows_of(form))
+    changed = copy_form(form)
     for step in steps:
         changed = step_form(changed, shape, step)
         shape = step_shape(shape, step)

@@ -1,12 +1,12 @@
 """Notes of borders: which of the forms with one result a form is."""
 
-from formroads.borders import check_border, cross_form
-from formroads.errors import InvalidForm, InvalidSchema, Stopped, Unreached
-from formroads.forms import form_of, form_of_rows, rows_of
+from formroads.borders import check_targets, cross_form
+from formroads.errors import InvalidForm, Stopped, Unreached
+from formroads.forms import form_of_rows, rows_of
+from formroads.leafpairs import leaf_form
 from formroads.notecodes import chosen_by, note_of, sizes_of
 from formroads.rules import Rules
 from formroads.schemas import Schema
-from formroads.shapes import values_path
 
 
 def sources(book, kind, target, value):
@@ -16,7 +16,7 @@ def sources(book, kind, target, value):
 
 def value_note(schema, targets, form):
     """The value note of a form."""
-    _check_targets(schema, targets)
+    check_targets(schema, targets)
     schema.with_rules(Rules()).check(form)
     try:
         result = cross_form(schema.book, form, schema.shape, targets, None)
@@ -52,39 +52,29 @@ def value_sizes(schema, targets, result):
 
 def lost_values(schema, targets):
     """None, or two forms of one leaf that are led to one result."""
-    _check_targets(schema, targets)
-    led_lists = [_led_members(schema, targets, column) for column in range(len(schema.kinds))]
-    values = [led_members[0][0] for led_members in led_lists]
-    for column, led_members in enumerate(led_lists):
+    check_targets(schema, targets)
+    led_lists = [led_members(schema, targets, column) for column in range(len(schema.kinds))]
+    values = [members[0][0] for members in led_lists]
+    for column, members in enumerate(led_lists):
         found = {}
-        for member, led in led_members:
+        for member, led in members:
             if led in found:
                 return tuple([
-                    _one_leaf(schema, values[:column] + [source] + values[column + 1:])
+                    leaf_form(schema, values[:column] + [source] + values[column + 1:], schema.last)
                     for source in (found[led], member)
                 ])
             found[led] = member
     return None
 
 
-def _led_members(schema, targets, column):
+def led_members(schema, targets, column):
     """The members of the kind of the column that pass, each with the value to which it is led."""
-    led_members = [(member, schema.book.led(member, targets[column])) for member in schema.choices(column)]
-    return [(member, led) for member, led in led_members if led is not None]
-
-
-def _one_leaf(schema, values):
-    return form_of([(0, values_path(schema.shape, values, schema.last))])
-
-
-def _check_targets(schema, targets):
-    if len(targets) != len(schema.kinds):
-        raise InvalidSchema("a border has one target for each column")
-    check_border(schema.book, schema.kinds, targets)
+    members = [(member, schema.book.led(member, targets[column])) for member in schema.choices(column)]
+    return [(member, led) for member, led in members if led is not None]
 
 
 def _check_result(schema, targets, result):
-    _check_targets(schema, targets)
+    check_targets(schema, targets)
     Schema(schema.book, schema.shape, targets, Rules()).check(result)
 
 

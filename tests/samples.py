@@ -7,6 +7,8 @@ nothing of the program. The tests compare the program with them.
 import itertools
 import unittest
 
+from formroads.editions import Editions
+from formroads.houses import House
 from formroads.kinds import Kindbook
 from formroads.passages import Passage
 from formroads.places import Places
@@ -15,6 +17,7 @@ from formroads.rules import Rules
 from formroads.schemas import Schema
 from formroads.summaries import Summary
 from formroads.ways import Way
+from formroads.webs import Web
 
 RECORDS = [("month", 2, None, ()), ("day", 3, "month", (0, 0, 1)), ("size", 2, None, ())]
 BIT = (("bit", 0), ("bit", 1))
@@ -268,6 +271,18 @@ def plain(thing):
         return ("summary", plain(thing.start), plain(thing.end), thing.facts())
     if isinstance(thing, Places):
         return ("places", plain(thing.book), thing.rows, thing.links)
+    if isinstance(thing, Web):
+        offices = [(name, plain(thing.office(name))) for name in thing.office_names()]
+        ways = [(name, thing.ends(name), plain(thing.way(name))) for name in thing.way_names()]
+        return ("web", plain(thing.book), offices, ways)
+    if isinstance(thing, Editions):
+        return ("editions", [plain(thing.web_at(edition)) for edition in range(thing.latest() + 1)])
+    if isinstance(thing, House):
+        travellers = [
+            (name, thing.where(name), plain(thing.outcome(name)), plain(thing.present_form(name)), thing.history(name))
+            for name in thing.traveller_names()
+        ]
+        return ("house", plain(thing.editions()), travellers, plain(thing.journal()))
     if isinstance(thing, dict):
         return ("dict", [(plain(key), plain(value)) for key, value in thing.items()])
     if isinstance(thing, list):
