@@ -231,6 +231,29 @@ class UnansweredTest(Case):
         self.assertEqual(answer_back(summary, ("rows", 0, ((0, "day"),)), [((DAYS[0],), []), ((DAYS[1],), [])]), [
             ((DAYS[0],), 1), ((DAYS[1],), 1)])
 
+    def test_values_above_a_level_that_no_leaf_reaches(self):
+        # Two days become one month, but no row of level 1 is there to be counted.
+        kinds = [sample_schema(((0,), (1,)), pair) for pair in (("day", "day"), ("month", "?"), ("month", "size"))]
+        summary = road_summary([Way("a", "a", kinds[0], kinds[1]), Way("b", "b", kinds[1], kinds[2])])
+        for query in (("rows", 1, ((0, "day"),)), ("most", 0, "day", ()), ("rows", 1, ((0, "day"), (1, "day")))):
+            self.assertIsNone(unanswered(summary, query))
+            self.assertEqual(answer_back(summary, query, [((("month", 0),), [])]), [])
+        self.assertIsNotNone(unanswered(summary, ("rows", 0, ((0, "day"),))))
+        self.assertIsNone(unanswered(summary, ("rows", 0, ((0, "month"),))))
+
+    def test_hollow_leaves_above_rows_that_are_put_together(self):
+        start = sample_schema(((0,), (1,), (2,)), ("day", "day", "day"))
+        summary = way_summary(Way("go", "red", start, start, [("unnest", 1), ("nest", 1, (2,))]))
+        self.assertEqual((summary.hollow, summary.depths), ((0, 1), (1, 1)))
+        first, second = unanswered(summary, ("rows", 1, ()))
+        self.assertEqual(summary(first), summary(second))
+        rows = [plain_answer(RECORDS, start, ("rows", 1, ()), form) for form in (first, second)]
+        self.assertEqual(sorted(rows), [[((), 1)], [((), 2)]])
+        form = [((DAYS[0],), []), ((DAYS[0],), [((DAYS[1],), [((DAYS[1],), [])]), ((DAYS[1],), [((DAYS[1],), [])])])]
+        self.assertEqual(answer_back(summary, ("rows", 0, ()), summary(form)[1]), [((), 2)])
+        self.assertEqual(answer_back(summary, ("rows", 2, ()), summary(form)[1]), [((), 2)])
+        self.raises(NotAnswered, answer_back, summary, ("rows", 1, ()), summary(form)[1])
+
     def test_no_form_passes(self):
         kinds = [sample_schema(((0,), (1,)), (kind, "day")) for kind in ("day", "?", "size")]
         summary = road_summary([Way("a", "a", kinds[0], kinds[1]), Way("b", "b", kinds[1], kinds[2])])

@@ -109,6 +109,7 @@ class RunTest(Case):
             "ask ann rows 0 0:abcdefghi", "ask ann rows 0  0:month", "ask ann most 0 ?", "ask ann most 0 Day", "ask ann most 0 0:day",
             "ask ann most x day", "ask ann most 01 day", "ask ann most 0 day x", "ask ann most 0 day 0:??", "ask ann rows 0 0:month x",
             "ask ann rows 1234567", "ask nobody rows x", "ask ann most 0 day day",
+            "ask ann least 0 day", "ask ann row 0 month", "tell ann rows 0", "tell ann most 0 month", "ask ann rows", "ask ann most day 0",
         ):
             self.raises(InvalidText, desk.run, line)
             self.assertEqual(plain(house), kept)

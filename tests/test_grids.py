@@ -86,6 +86,11 @@ class RouteTest(Case):
         self.assertEqual([way.end.kinds for way in found], [("day", "?"), ("month", "?"), ("month", "?")])
         self.assertEqual([way.name for way in route(editions, ["two"], "t", 1)], ["b"])
         self.assertEqual(route(editions, ["two"], "", 2), [])
+        # One edition is enough for a road.
+        editions = Editions(editions.web_at(0))
+        self.assertEqual([way.name for way in route(editions, ("one", "two"), "ww", 0)], ["one", "two"])
+        self.assertIsNone(grid_difference(editions, ("one", "two"), 0))
+        self.assertIsNone(route_difference(editions, ("one", "two"), "ww", "ww"))
 
     def test_errors_in_their_order(self):
         editions = changed_web()

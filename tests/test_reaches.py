@@ -138,6 +138,8 @@ class MovedPlacesTest(Case):
         editions.change_kinds("a", ("month",))
         error = self.raises(Conflict, moved_places, editions, 2)
         self.assertEqual(error.walks, ([("a", 0), ("b", 0), ("c", 0)],))
+        # Editions that do not exist come before conflicts.
+        self.raises_unchanged(InvalidMove, moved_places, editions, 3)
 
     def test_freshness(self):
         editions = changed_web()
